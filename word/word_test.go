@@ -6,7 +6,7 @@ import (
 )
 
 func TestName(t *testing.T) {
-	for s, want := range map[string]bool{"": false, "AS-Set:1": true, "-": true, "a b": false, "ä": false, "a_b": false, strings.Repeat("x", 32): true, strings.Repeat("x", 33): false} {
+	for s, want := range map[string]bool{"": false, "AS-Set:1": true, "-": true, "a b": false, "ä": false, "a_b": false, "azAZ09-:": true, "a/b": false, "a;b": false, "a@b": false, "a[b": false, "a`b": false, "a{b": false, strings.Repeat("x", 32): true, strings.Repeat("x", 33): false} {
 		if Name(s) != want {
 			t.Error("Name", s)
 		}
